@@ -1,0 +1,1 @@
+"""Lampstays: what the logs of lamps tell about motions."""
