@@ -19,6 +19,13 @@ def is_minute(value):
     return is_whole(value) and 0 <= value <= MAX_MINUTE
 
 
+def are_minutes(value):
+    """Return whether value is an ascending tuple of minutes."""
+    if not isinstance(value, tuple) or not all([is_minute(item) for item in value]):
+        return False
+    return all([one < other for one, other in zip(value, value[1:])])
+
+
 def is_index(value, many):
     """Return whether value is the index of one of so many things."""
     return is_whole(value) and 0 <= value < many

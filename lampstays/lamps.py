@@ -3,6 +3,7 @@
 from lampstays.bounds import MAX_MINUTE, MAX_RUNS, MAX_STRETCHES
 from lampstays.checks import is_index, is_minute, is_run, is_stretch, is_whole, last_minute
 from lampstays.errors import BadLog, NoIndex, NoMinute, TooLarge
+from lampstays.spans import common
 
 KINDS = ("hold", "pulse")
 
@@ -61,7 +62,7 @@ def log_of(lamp, motions):
     pieces = []
     for run in lighting:
         pieces.extend(lit_pieces(stay, run))
-    return not_too_many(joined(pieces))
+    return at_most(MAX_STRETCHES, joined(pieces))
 
 
 def lighting_runs(stay, motions):
@@ -106,11 +107,11 @@ def joined(pieces):
     return tuple(stretches)
 
 
-def not_too_many(stretches):
-    """Return the stretches, if a log may have so many."""
-    if len(stretches) > MAX_STRETCHES:
-        raise TooLarge(MAX_STRETCHES)
-    return stretches
+def at_most(limit, parts):
+    """Return the parts, if there are not more than this limit."""
+    if len(parts) > limit:
+        raise TooLarge(limit)
+    return parts
 
 
 def motions_of(value):
@@ -122,22 +123,23 @@ def motions_of(value):
         if not is_minute(item) or item <= before:
             raise NoMinute(item)
         before = item
-    runs = runs_at(value)
-    if len(runs) > MAX_RUNS:
-        raise TooLarge(MAX_RUNS)
-    return runs
+    return at_most(MAX_RUNS, runs_of([(minute, 1, 1) for minute in value]))
 
 
-def runs_at(minutes):
-    """Return the runs at these minutes; each takes as many of them as it can."""
+def runs_of(pieces):
+    """Return the runs at the minutes of these runs, which come in order; each takes as many minutes as it can."""
     runs = []
-    for minute in minutes:
-        if runs and follows(minute, runs[-1]):
-            first, _, count = runs[-1]
+    for first, step, count in pieces:
+        taken = 0
+        if runs and follows(first, runs[-1]):
+            begin, _, many = runs[-1]
             # The step is worked out anew, since a run of one motion has none of its own yet.
-            runs[-1] = (first, (minute - first) // count, count + 1)
-        else:
-            runs.append((minute, 1, 1))
+            apart = (first - begin) // many
+            taken = count if step == apart else 1
+            runs[-1] = (begin, apart, many + taken)
+        if taken < count:
+            left = count - taken
+            runs.append((first + step * taken, step if left > 1 else 1, left))
     return tuple(runs)
 
 
@@ -177,11 +179,6 @@ def each_motion(motions, *, start=0):
         for at in range(skipped, count):
             yield first + step * at
         skipped = max(0, skipped - count)
-
-
-def common(one, two):
-    """Return the part that two stretches share; its off is not greater than its on if there is none."""
-    return (max(one[0], two[0]), min(one[1], two[1]))
 
 
 class Log:
@@ -227,13 +224,13 @@ class Log:
         if not isinstance(other, Log):
             return NotImplemented
         pieces = sorted([*self._stretches, *other._stretches])
-        return Log(not_too_many(joined(pieces)))
+        return Log(at_most(MAX_STRETCHES, joined(pieces)))
 
     def __and__(self, other):
         if not isinstance(other, Log):
             return NotImplemented
         pieces = [common(one, two) for one in self._stretches for two in other._stretches]
-        return Log(not_too_many(tuple([(on, off) for on, off in pieces if on < off])))
+        return Log(at_most(MAX_STRETCHES, tuple([(on, off) for on, off in pieces if on < off])))
 
     def __len__(self):
         return len(self._stretches)

@@ -4,12 +4,15 @@ import copy
 import unittest
 
 from helpers import WRONG
-from lampstays import lamps
+from lampstays import facts, fewest, lamps, stays
 from lampstays.errors import LampError
+from lampstays.facts import Reading
 from lampstays.lamps import Log
+from lampstays.stays import Stays
+from stories import BOTH, BOTH_LOGS, LONG, LONG_LOGS
 
 MOTIONS = ((3, 2, 3), (20, 1, 1), (24, 1, 1))
-BOTH = (("hold", 5), ("pulse", 3))
+AT_ODDS = (("hold", 5), ("hold", 2)), (((3, 12),), ((3, 5),))
 
 
 def told(call, args):
@@ -36,6 +39,45 @@ class Conventions(unittest.TestCase):
             yield lamps.log_of, [lamp, MOTIONS]
         yield lamps.count_motions, [MOTIONS]
         yield lambda motions: list(lamps.each_motion(motions, start=2)), [MOTIONS]
+        yield from self.calls_of_values()
+        yield from self.calls_of_logs()
+
+    def calls_of_values(self):
+        """The calls of facts, stays and fewest with parameters that take any value."""
+        reading, fitting = Reading(BOTH, BOTH_LOGS), Stays(((3, 12),))
+        wrong = (("motions", [3]), ("sure", 0, [7], 1), (MOTIONS, [(3, 1, 1)]), [("hold", 5)], {"a": [(3, 8)]})
+        for value in (*WRONG, MOTIONS, (3, 7, 20, 24), ("motions", MOTIONS), (MOTIONS, ((3, 1, 1),)), *wrong):
+            for call in (facts.explains, facts.verdict_holds, facts.state_of, facts.explained, fewest.fewest_holds,
+                         fewest.next_sure, fewest.next_possible, fewest.is_explanation, fewest.united,
+                         fewest.explanation_at, fewest.explanation_index):
+                yield call, [BOTH, BOTH_LOGS, value]
+            yield stays.fitting, [((3, 12),), ("hold", 5), value]
+            yield stays.stays_of, [value, ((3, 12),)]
+            yield stays.stays_beside, [value, ((3, 12),), BOTH, BOTH_LOGS]
+            yield reading, [value]
+            yield lambda value: value in reading, [value]
+            yield lambda value: reading[value], [value]
+            yield lambda value: Stays(((3, 12),), value).days, [value]
+            yield lambda value: value in fitting, [value]
+            yield lambda value: fitting[value], [value]
+
+    def calls_of_logs(self):
+        """The calls of facts, stays and fewest with lamps and logs alone."""
+        for told in ((BOTH, BOTH_LOGS), (LONG, LONG_LOGS), AT_ODDS, (BOTH, ())):
+            for call in (facts.verdict, facts.possible_spans, facts.at_odds, stays.arrangements, fewest.gaps,
+                         fewest.fewest_count, fewest.most_count, fewest.fewest_motions, fewest.most_motions,
+                         fewest.needs_of, fewest.count_explanations):
+                yield call, list(told)
+            yield lambda lamps, logs: list(fewest.each_explanation(lamps, logs, start=3)), list(told)
+            yield lambda lamps, logs: Reading(lamps, logs).spans, list(told)
+        for lamp, log in zip(BOTH, BOTH_LOGS):
+            for call in (facts.wrong_stretches, facts.sure_runs, facts.quiet_spans, facts.call_spans, stays.fits):
+                yield call, [lamp, log]
+            yield stays.both_kinds, [log]
+            yield stays.first_difference, [lamp, BOTH[0], MOTIONS]
+            yield stays.least_example, [lamp, BOTH[0]]
+            yield lambda log: Stays(log)(MOTIONS), [log]
+            yield lambda log: (Stays(log) & Stays(BOTH_LOGS[0]))["hold"], [log]
 
     def test_arguments_stay_as_they_are_and_equal_calls_return_equal_results(self):
         for call, args in self.calls():
@@ -58,6 +100,21 @@ class Conventions(unittest.TestCase):
         for call in (lambda: log[2], lambda: log(-1), lambda: log(None), lambda: log[True]):
             self.assertRaises(LampError, call)
         self.assertEqual([log, log.lit, len(log)], [Log(((3, 8), (20, 29))), 14, 2])
+        fitting = Stays(((3, 12),))
+        for call in (lambda: fitting["on"], lambda: fitting[None], lambda: Stays(None), lambda: fitting[0]):
+            self.assertRaises(LampError, call)
+        self.assertEqual([fitting, fitting.days, fitting.how_many()], [Stays(((3, 12),)), (((3, 12),),), 12])
+
+    def test_objects_stay_as_they_are(self):
+        one, other = Stays(((3, 12),)), Stays(((0, 6), (8, 14)))
+        both = one & other
+        for _ in range(2):
+            self.assertEqual([one.days, other.days], [(((3, 12),),), (((0, 6), (8, 14)),)])
+            self.assertEqual(both.days, one.days + other.days)
+            self.assertEqual([one(((3, 1, 1),)), one["hold"], both["pulse"]], [None, ((1, 9),), ((1, 1), (3, 3))])
+        reading = Reading(BOTH, BOTH_LOGS)
+        first = (reading.spans, reading.possible, [reading(minute) for minute in range(30)])
+        self.assertEqual((reading.spans, reading.possible, [reading(minute) for minute in range(30)]), first)
 
 
 if __name__ == "__main__":

@@ -68,6 +68,231 @@ raises NoIndex(3)
 >>> Log(((3, 3),))
 raises BadLog((0, 'stretch'))
 ''',
+    "15": '''
+>>> from lampstays.facts import wrong_stretches
+>>> [wrong_stretches(("hold", 5), ((3, 12), (20, 24))), wrong_stretches(("pulse", 3), ((3, 12), (20, 24))), wrong_stretches(("hold", 5), ((10 ** 9, 10 ** 9 + 6),))]
+[(1,), (1,), (0,)]
+''',
+    "16": '''
+>>> from lampstays.facts import call_spans, quiet_spans, sure_runs
+>>> G = ((3, 12), (20, 29))
+>>> [sure_runs(("hold", 5), G), sure_runs(("pulse", 3), G), quiet_spans(("hold", 5), G), call_spans(("hold", 5), G)]
+[((3, 4, 2), (20, 4, 2)), ((3, 3, 3), (20, 3, 3)), ((0, 2), (8, 19), (25, 1000000000)), ((3, 7), (20, 24))]
+''',
+    "16 unexplained": '''
+>>> from lampstays.facts import quiet_spans
+>>> quiet_spans(("pulse", 4), ((3, 11), (20, 29)))
+raises Unexplained(('stretch', 0, 1))
+''',
+    "17": '''
+>>> from lampstays.facts import explains
+>>> A, G = (("hold", 5), ("pulse", 3)), (((3, 12), (20, 29)), ((3, 6), (7, 10), (20, 23), (24, 27)))
+>>> [explains(A, G, ((3, 4, 2), (20, 4, 2))), explains(A, G, ((3, 17, 2),)), explains(A, G, None)]
+[True, False, False]
+''',
+    "18": '''
+>>> from lampstays.facts import verdict
+>>> A, G = (("hold", 5), ("pulse", 3)), (((3, 12), (20, 29)), ((3, 6), (7, 10), (20, 23), (24, 27)))
+>>> [verdict(A, G)[0], verdict((("pulse", 3),), (((0, 4),),)), verdict((("hold", 5), ("hold", 2)), (((3, 12),), ((3, 5),)))]
+['motions', ('stretch', 0, 0), ('sure', 0, 7, 1)]
+''',
+    "18 more": '''
+>>> from lampstays.facts import verdict
+>>> [verdict((("hold", 3), ("pulse", 2)), (((0, 9),), ((0, 2), (6, 8)))), verdict((("hold", 3),), (((0, 9),),))[0]]
+[('call', 0, 2, 1), 'motions']
+''',
+    "19": '''
+>>> from lampstays.facts import verdict_holds
+>>> L, G = (("hold", 5), ("hold", 2)), (((3, 12),), ((3, 5),))
+>>> [verdict_holds(L, G, ("sure", 0, 7, 1)), verdict_holds(L, G, ("sure", 0, 3, 1)), verdict_holds(L[:1], G[:1], ("motions", ((3, 4, 2),)))]
+[True, False, True]
+''',
+    "20": '''
+>>> from lampstays.facts import possible_spans
+>>> A, G = (("hold", 5), ("pulse", 3)), (((3, 12), (20, 29)), ((3, 6), (7, 10), (20, 23), (24, 27)))
+>>> [possible_spans(A, G), possible_spans((("pulse", 3),), ((),))]
+[((3, 5), (7, 7), (20, 22), (24, 24)), ()]
+''',
+    "20 unexplained": '''
+>>> from lampstays.facts import possible_spans
+>>> possible_spans((("pulse", 3),), (((0, 4),),))
+raises Unexplained(('stretch', 0, 0))
+''',
+    "21": '''
+>>> from lampstays.facts import state_of
+>>> F, G = (("hold", 3), ("pulse", 2)), (((0, 9),), ((0, 4), (6, 8)))
+>>> [state_of(F, G, minute) for minute in range(8)]
+['sure', 'open', 'sure', 'sure', 'quiet', 'quiet', 'sure', 'quiet']
+''',
+    "22": '''
+>>> from lampstays.facts import at_odds
+>>> L, G = (("hold", 5), ("hold", 2), ("hold", 9)), (((3, 12),), ((3, 5),), ((3, 16),))
+>>> [at_odds(L, G), at_odds(L[::2], G[::2])]
+[((0, 1), (1, 2)), ()]
+''',
+    "23": '''
+>>> from lampstays.facts import explained
+>>> L, G = (("hold", 5), ("hold", 2), ("hold", 9)), (((3, 12),), ((3, 5),), ((3, 16),))
+>>> [explained(L, G, 0, 2), explained(L, G, 1, 0, 1), explained(L, G)]
+[True, False, True]
+''',
+    "24": '''
+>>> from lampstays.facts import Reading
+>>> reading = Reading((("hold", 5), ("pulse", 3)), (((3, 12), (20, 29)), ((3, 6), (7, 10), (20, 23), (24, 27))))
+>>> [reading(4), 4 in reading, 6 in reading, reading[1], len(reading), reading.possible]
+['open', True, False, (7, 7), 4, 8]
+''',
+    "24 no index": '''
+>>> from lampstays.facts import Reading
+>>> Reading((("hold", 5),), (((3, 12),),))[1]
+raises NoIndex(1)
+''',
+    "26": '''
+>>> from lampstays.stays import fits, fitting
+>>> [fits(('hold', 9), ((3, 12), (20, 29))), fits(('hold', 10), ((3, 12),)), fits(('pulse', 2), ((3, 12),))]
+[True, False, False]
+>>> fitting(((3, 12),), ('pulse', 3), ('hold', 10), ('hold', 1), ('pulse', 4))
+(0, 2)
+''',
+    "26 bad lamp": '''
+>>> from lampstays.stays import fitting
+>>> fitting((), ('hold', 1), ('hold', 0))
+raises BadLamp(('hold', 0))
+''',
+    "27": '''
+>>> from lampstays.stays import both_kinds, stays_of
+>>> [stays_of('hold', ((3, 12), (20, 26))), stays_of('pulse', ((3, 12), (20, 26))), stays_of('pulse', ((0, 4), (6, 12)))]
+[((1, 6),), ((1, 1), (3, 3)), ((1, 2),)]
+>>> [stays_of('hold', ()), both_kinds(((3, 12), (20, 26))), stays_of('hold', ((5, 10 ** 9 + 4),))]
+[((1, 1000000000),), ((1, 1), (3, 3)), ((4, 999999999),)]
+''',
+    "27 no kind": '''
+>>> from lampstays.stays import stays_of
+>>> stays_of('on', ())
+raises NoKind('on')
+''',
+    "28": '''
+>>> from lampstays.stays import stays_beside
+>>> K = (('hold', 5),)
+>>> [stays_beside('hold', ((3, 10),), K, (((3, 12),),)), stays_beside('pulse', ((3, 10),), K, (((3, 12),),)), stays_beside('hold', (), K, (((3, 12),),))]
+[((3, 3),), ((7, 7),), ()]
+''',
+    "28 other count": '''
+>>> from lampstays.stays import stays_beside
+>>> stays_beside('hold', (), (('hold', 5),), ())
+raises OtherCount(0)
+''',
+    "29": '''
+>>> from lampstays.stays import arrangements
+>>> [arrangements((('hold', 5), ('pulse', 3)), (((3, 6), (7, 10)), ((3, 12),))), arrangements((('hold', 2), ('hold', 2)), (((3, 5),), ((3, 5),)))]
+[((1, 0),), ((0, 1), (1, 0))]
+>>> [arrangements((), ()), arrangements((('hold', 5),), (((3, 6),),))]
+[((),), ()]
+''',
+    "30": '''
+>>> from lampstays.stays import first_difference, least_example
+>>> M = ((3, 2, 3), (20, 4, 2))
+>>> [first_difference(('hold', 5), ('pulse', 5), M), first_difference(('hold', 4), ('hold', 5), M), first_difference(('hold', 1), ('pulse', 1), M)]
+[8, 11, None]
+>>> [least_example(('hold', 5), ('pulse', 3)), least_example(('hold', 5), ('pulse', 5)), least_example(('hold', 1), ('pulse', 1))]
+[(0,), (0, 1), None]
+''',
+    "31": '''
+>>> from lampstays.stays import Stays
+>>> A, B = Stays(((3, 12),)), Stays(((0, 6), (8, 14)))
+>>> [A['hold'], (A & B)['hold'], (A & B)['pulse'], ('pulse', 3) in A & B, ('hold', 7) in A & B, (A & B).how_many(), str(Stays())]
+[((1, 9),), ((1, 6),), ((1, 1), (3, 3)), True, False, 8, '2,000,000,000 lamps']
+>>> [Stays(((3, 4),))(((5, 2, 2),)), A(((5, 2, 2),)), Stays(((0, 1), (2, 5)))(()), bool(A & Stays(((0, 10),)))]
+[((5, 6), (7, 8)), None, (), True]
+''',
+    "31 bad log": '''
+>>> from lampstays.stays import Stays
+>>> Stays((), ((3, 3),))
+raises BadLog((0, 'stretch'))
+''',
+    "33": '''
+>>> from lampstays.fewest import gaps
+>>> L = (("hold", 5), ("pulse", 3))
+>>> G = (((3, 12), (20, 29)), ((3, 6), (7, 10), (20, 23), (24, 27)))
+>>> [gaps(L, G), gaps((("pulse", 4),), (((2, 10),),)), gaps(L, ((), ()))]
+[((3, 7, 5, 5), (7, 20, 7, None), (20, 24, 22, 5), (24, None, 24, None)), ((2, 6, 5, None), (6, None, 9, None)), ()]
+''',
+    "33 other count": '''
+>>> from lampstays.fewest import gaps
+>>> gaps((("hold", 5),), ())
+raises OtherCount(0)
+''',
+    "34": '''
+>>> from lampstays.fewest import fewest_count, most_count
+>>> L = (("hold", 5), ("pulse", 3))
+>>> G = (((3, 12), (20, 29)), ((3, 6), (7, 10), (20, 23), (24, 27)))
+>>> H, K = (("hold", 3),), (((0, 20),),)
+>>> [fewest_count(L, G), most_count(L, G), fewest_count(H, K), most_count(H, K), most_count((), ())]
+[4, 8, 7, 18, 1000000001]
+''',
+    "35": '''
+>>> from lampstays.fewest import fewest_motions, most_motions
+>>> L = (("hold", 5), ("pulse", 3))
+>>> G = (((3, 12), (20, 29)), ((3, 6), (7, 10), (20, 23), (24, 27)))
+>>> H, K = (("hold", 3),), (((0, 20),),)
+>>> [fewest_motions(L, G), most_motions(L, G), fewest_motions(H, K), most_motions(H, K)]
+[((3, 4, 2), (20, 4, 2)), ((3, 1, 3), (7, 13, 2), (21, 1, 2), (24, 1, 1)), ((0, 2, 2), (5, 3, 5)), ((0, 1, 18),)]
+''',
+    "37": '''
+>>> from lampstays.fewest import needs_of
+>>> L = (("hold", 5), ("pulse", 3))
+>>> G = (((3, 12), (20, 29)), ((3, 6), (7, 10), (20, 23), (24, 27)))
+>>> H, K = (("hold", 3),), (((0, 20),),)
+>>> [needs_of(L, G), needs_of(H, K)]
+[((3, 1, 1), (7, 1, 1), (20, 1, 1), (24, 1, 1)), ((0, 1, 1), (1, 3, 5), (17, 1, 1))]
+''',
+    "38": '''
+>>> from lampstays.fewest import fewest_holds
+>>> H, K = (("hold", 3),), (((0, 20),),)
+>>> [fewest_holds(H, K, (((0, 2, 2), (5, 3, 5)), ((0, 1, 1), (1, 3, 5), (17, 1, 1)))), fewest_holds(H, K, (((0, 1, 18),), ((0, 1, 18),)))]
+[True, False]
+''',
+    "39": '''
+>>> from lampstays.fewest import next_possible, next_sure
+>>> L = (("hold", 5), ("pulse", 3))
+>>> G = (((3, 12), (20, 29)), ((3, 6), (7, 10), (20, 23), (24, 27)))
+>>> [next_sure(L, G, 8), next_possible(L, G, 4), next_possible(L, G, 6), next_sure(L, G, 25)]
+[20, 4, 7, None]
+''',
+    "41": '''
+>>> from lampstays.fewest import is_explanation, united
+>>> L = (("hold", 5), ("pulse", 3))
+>>> G = (((3, 12), (20, 29)), ((3, 6), (7, 10), (20, 23), (24, 27)))
+>>> [is_explanation(L, G, (3, 7, 20, 24)), is_explanation(L, G, (3, 6, 7, 20, 24)), united(L, G, (3, 5, 7, 20, 24), (3, 7, 20, 21, 24))]
+[True, False, (3, 5, 7, 20, 21, 24)]
+''',
+    "41 no explanation": '''
+>>> from lampstays.fewest import united
+>>> L = (("hold", 5), ("pulse", 3))
+>>> G = (((3, 12), (20, 29)), ((3, 6), (7, 10), (20, 23), (24, 27)))
+>>> united(L, G, (3, 7, 20, 24), (3, 7, 20))
+raises NoExplanation(1)
+''',
+    "42": '''
+>>> from lampstays.fewest import count_explanations, explanation_at, explanation_index
+>>> L = (("hold", 5), ("pulse", 3))
+>>> G = (((3, 12), (20, 29)), ((3, 6), (7, 10), (20, 23), (24, 27)))
+>>> H, K = (("hold", 3),), (((0, 20),),)
+>>> [count_explanations(L, G), count_explanations(H, K), explanation_at(L, G, 0), explanation_at(L, G, 15), explanation_index(L, G, (3, 7, 20, 24))]
+[16, 19513, (3, 4, 5, 7, 20, 21, 22, 24), (3, 7, 20, 24), 15]
+''',
+    "42 too large": '''
+>>> from lampstays.fewest import count_explanations
+>>> count_explanations((), ())
+raises TooLarge(300)
+''',
+    "43": '''
+>>> from lampstays.fewest import each_explanation
+>>> L = (("hold", 5), ("pulse", 3))
+>>> G = (((3, 12), (20, 29)), ((3, 6), (7, 10), (20, 23), (24, 27)))
+>>> list(each_explanation(L, G, start=14))
+[(3, 7, 20, 22, 24), (3, 7, 20, 24)]
+''',
 }
 
 

@@ -11,6 +11,7 @@ BUILTINS = {
     "list", "tuple", "dict", "set", "isinstance", "ord", "repr", "any", "all", "divmod", "property", "staticmethod",
     "classmethod", "super", "ValueError", "TypeError", "KeyError", "IndexError", "NotImplemented",
 }
+LIBRARY = {"math": {"gcd", "isqrt"}}
 DECORATORS = {"property", "staticmethod", "classmethod"}
 FORBIDDEN = (
     ast.AsyncFunctionDef, ast.AsyncFor, ast.AsyncWith, ast.Await, ast.Import, ast.Global, ast.Div, ast.MatMult,
@@ -51,7 +52,9 @@ class Language(unittest.TestCase):
         names = {".".join(path.relative_to(FOLDER.parent).with_suffix("").parts): tree for path, tree in trees()}
         for path, tree in trees():
             for node in ast.walk(tree):
-                if isinstance(node, ast.ImportFrom):
+                if isinstance(node, ast.ImportFrom) and node.module in LIBRARY:
+                    self.assertLessEqual({alias.name for alias in node.names}, LIBRARY[node.module], path)
+                elif isinstance(node, ast.ImportFrom):
                     self.assertEqual(node.level, 0, path)
                     self.assertIn(node.module, names, path)
                     bound = [getattr(item, "name", None) or ast.unparse(item.targets[0])
