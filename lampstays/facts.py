@@ -39,6 +39,12 @@ def check_fits(lamps, logs):
         raise Unexplained(reason)
 
 
+def check_minute(minute):
+    """Raise NoMinute if this is not a minute."""
+    if not is_minute(minute):
+        raise NoMinute(minute)
+
+
 def check_counts(lamps, logs):
     """Raise OtherCount if there is not one log for each lamp."""
     if len(lamps) != len(logs):
@@ -242,8 +248,7 @@ def possible_spans(lamps, logs):
 def state_of(lamps, logs, minute):
     """Return "sure", "quiet" or "open": what all motions that explain the logs do at this minute."""
     spans = possible_spans(lamps, logs)
-    if not is_minute(minute):
-        raise NoMinute(minute)
+    check_minute(minute)
     return state_beside(lamps, logs, spans, minute)
 
 
@@ -251,20 +256,15 @@ def state_beside(lamps, logs, spans, minute):
     """Return the state of a minute; the spans are those of the possible minutes."""
     if not is_within(spans, minute):
         return "quiet"
-    pairs = list(zip(lamps, logs))
-    if any([is_sure_minute(lamp, log, minute) for lamp, log in pairs]):
+    if any([is_sure_minute(lamp, log, minute) for lamp, log in zip(lamps, logs)]):
         return "sure"
-    before = max([min(last, minute - 1) for first, last in spans if first < minute], default=None)
-    behind = min([max(first, minute + 1) for first, last in spans if last > minute], default=None)
-    if any([is_called(lamp, log, minute) and behind - before > lamp[1] for lamp, log in pairs]):
-        return "sure"
-    return "open"
-
-
-def is_called(lamp, log, minute):
-    """Return whether the lamp is a hold lamp that is lit through motions before and behind this minute."""
-    kind, stay = lamp
-    return kind == "hold" and any([on < minute < off - stay for on, off in log])
+    stays = [stay for kind, stay in lamps if kind == "hold"]
+    if not stays:
+        return "open"
+    # A stretch of each hold lamp goes on to both sides, so a call has no other possible minute if these are far apart.
+    before = max([min(last, minute - 1) for first, last in spans if first < minute])
+    behind = min([max(first, minute + 1) for first, last in spans if last > minute])
+    return "sure" if behind - before > min(stays) else "open"
 
 
 def at_odds(lamps, logs):
@@ -304,8 +304,7 @@ class Reading:
         return how_many_in(self._spans)
 
     def __call__(self, minute):
-        if not is_minute(minute):
-            raise NoMinute(minute)
+        check_minute(minute)
         return state_beside(self._lamps, self._logs, self._spans, minute)
 
     def __contains__(self, value):

@@ -1,9 +1,9 @@
 """The fewest and the most motions that explain logs, and all explanations in their order."""
 
 from lampstays.bounds import LISTED, MAX_MINUTE, MAX_RUNS, SMALL
-from lampstays.checks import are_minutes, is_index, is_minute, is_whole_tuple
-from lampstays.errors import NoExplanation, NoIndex, NoMinute, TooLarge
-from lampstays.facts import explains, give_logs, possible_spans, sure_runs
+from lampstays.checks import are_minutes, is_index, is_whole_tuple
+from lampstays.errors import NoExplanation, NoIndex, TooLarge
+from lampstays.facts import check_minute, explains, give_logs, possible_spans, sure_runs
 from lampstays.lamps import at_most, count_motions, each_motion, rounded_up, runs_of
 from lampstays.numbering import Numbering
 from lampstays.spans import first_from, how_many_in, overlaps
@@ -137,13 +137,13 @@ def needs_hold(found, needs):
     """Return whether the gaps allow no motions without one in each stretch of these needs."""
     if not needs:
         return True
-    if not found or not is_fixed(found[0][0]):
+    if not found:
         return False
     # No motion is needed before the first fixed minute, nor behind the last one.
     if needs[0][0] + needs[0][1] <= found[0][0] or found[-1][0] <= need_end(needs[-1]) - needs[-1][1]:
         return False
     asked = [(need[0], need_end(need), need) for need in needs]
-    between = [(gap[0] + 1, gap[1] - 1, gap) for gap in found[:-1] if gap[0] + 1 < gap[1]]
+    between = [(gap[0] + 1, gap[1] - 1, gap) for gap in found[:-1]]
     return all([holds_within(gap, need) for (_, _, need), (_, _, gap) in overlaps(asked, between)])
 
 
@@ -181,12 +181,6 @@ def next_possible(lamps, logs, minute):
     spans = loose_spans(gaps(lamps, logs))
     check_minute(minute)
     return first_from(spans, minute)
-
-
-def check_minute(minute):
-    """Raise NoMinute if this is not a minute."""
-    if not is_minute(minute):
-        raise NoMinute(minute)
 
 
 def sure_spans(gap):

@@ -8,8 +8,6 @@ from lampstays.facts import Facts, check_counts, clash_reason, facts_of, possibl
 from lampstays.lamps import KINDS, is_lamp, log_error, log_of
 from lampstays.spans import how_many_in, is_within, overlaps, shared, spans_beside
 
-EVERY_STAY = ((1, MAX_MINUTE),)
-
 
 def check_kind(kind):
     """Raise NoKind if this is not the kind of a lamp."""
@@ -52,9 +50,8 @@ def hold_ranges(stretches):
 
 def pulse_ranges(stretches):
     """Return the ranges of the stays of the pulse lamps that all these stretches fit."""
-    if not stretches:
-        return EVERY_STAY
-    return ranges_of(pulse_stays(stretches))
+    # Without a stretch every stay fits, whatever the kind is.
+    return ranges_of(pulse_stays(stretches)) if stretches else hold_ranges(())
 
 
 def pulse_stays(stretches):
@@ -95,7 +92,7 @@ def stays_beside(kind, log, lamps, logs):
     if claims[0] >= 0:
         return ()
     if not log:
-        return EVERY_STAY
+        return stays_of(kind, ())
     if kind == "hold":
         return hold_beside(log, spans, claims[1:])
     return pulse_beside(log, spans, claims[1:])
@@ -108,7 +105,7 @@ def last_claim(told, until):
         for first, last, step in facts.sure_parts:
             if first <= until:
                 claims.append(first + step * ((min(last, until) - first) // step))
-        # From here on less than a whole call is left.
+        # Behind the begin of the last call up to until, the minutes that are left are no call any more.
         starts = [(first, min(last, until) - facts.stay + 1) for first, last in facts.call_parts]
         claims.extend([start for first, start in starts if first <= start])
     return max(claims)
@@ -132,14 +129,10 @@ def pulse_beside(log, spans, claims):
     """Return the stays of a pulse lamp beside lamps with these possible spans and a claim behind each stretch."""
     if any([off <= claim for (_, off), claim in zip(log, claims)]):
         return ()
-    blocked = overlaps(log_spans(log), spans_beside(spans))
+    lit = [(on, off - 1) for on, off in log]
+    blocked = overlaps(lit, spans_beside(spans))
     stays = pulse_stays(log)
-    return ranges_of([stay for stay in stays if not any([is_blocked(stay, lit, quiet) for lit, quiet in blocked])])
-
-
-def log_spans(log):
-    """Return the spans of the minutes at which the lamp is on."""
-    return [(on, off - 1) for on, off in log]
+    return ranges_of([stay for stay in stays if not any([is_blocked(stay, one, quiet) for one, quiet in blocked])])
 
 
 def is_blocked(stay, lit, quiet):

@@ -93,7 +93,7 @@ class Ordinary(unittest.TestCase):
         check_raises(self, NoExplanation(0), explanation_index, lamps, logs, (3,))
 
     def test_other_values(self):
-        for value in (*WRONG, [3, 7, 20, 24], (3, 7, 20), (3, 7, 7, 20, 24), (7, 3, 20, 24), (3, 7, 20, 24, TOP + 1),
+        for value in (*WRONG, (), [3, 7, 20, 24], (3, 7, 20), (3, 7, 7, 20, 24), (7, 3, 20, 24), (3, 7, 20, TOP + 1),
                       ((3, 4, 2), (20, 4, 2)), (3, 7, 20, "24"), {"a": (3, 7, 20, 24)}, (True, 3, 7, 20, 24)):
             self.assertIs(is_explanation(BOTH, BOTH_LOGS, value), False)
             self.assertEqual(check_raises(self, NoExplanation(0), explanation_index, BOTH, BOTH_LOGS, value).index, 0)
@@ -120,7 +120,7 @@ class Ordinary(unittest.TestCase):
         self.assertEqual(list(each_explanation(lamps, logs)), [(5,), (5, 6), (5, 6, 7), (5, 7)])
 
     def test_indexes_that_there_are_not(self):
-        for value in (*WRONG, 16, 17, "0", [0], (0,), HUGE):
+        for value in (*WRONG, (), 16, 17, "0", [0], (0,), HUGE):
             self.assertIs(check_raises(self, NoIndex(value), explanation_at, BOTH, BOTH_LOGS, value).index, value)
 
     def test_long_times(self):

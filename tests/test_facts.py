@@ -193,11 +193,11 @@ class ManyLamps(unittest.TestCase):
         self.assertEqual(verdict((("hold", 3), ("pulse", 2)), (((0, 9),), ((0, 4), (6, 8))))[0], "motions")
 
     def test_other_values_explain_nothing(self):
-        for value in (*WRONG, [(3, 4, 2)], ((3, 4, 2), (20, 4, True)), ((3, 4, 2), [20, 4, 2]), (3, 7, 20, 24),
+        for value in (*WRONG, (), [(3, 4, 2)], ((3, 4, 2), (20, 4, True)), ((3, 4, 2), [20, 4, 2]), (3, 7, 20, 24),
                       tuple((at, 1, 1) for at in range(361)), ("motions", ((3, 4, 2), (20, 4, 2)))):
             self.assertIs(explains(BOTH, BOTH_LOGS, value), False)
             self.assertIs(verdict_holds(BOTH, BOTH_LOGS, ("motions", value)), False)
-        for value in (*WRONG, ((3, 4, 2), (20, 4, 2))):
+        for value in (*WRONG, (), ((),), ((3, 4, 2), (20, 4, 2))):
             self.assertIs(verdict_holds(BOTH, BOTH_LOGS, value), False)
         self.assertIs(verdict_holds(BOTH, BOTH_LOGS, ["motions", ((3, 4, 2), (20, 4, 2))]), False)
         self.assertIs(verdict_holds(BOTH, BOTH_LOGS, ("motions", ((3, 4, 2), (20, 4, 2)), 0)), False)
@@ -239,13 +239,13 @@ class Errors(unittest.TestCase):
                 check_raises(self, OtherCount(len(logs)), call, *args)
 
     def test_minutes(self):
-        for value in (*WRONG, TOP + 1, LIMIT):
+        for value in (*WRONG, (), TOP + 1, LIMIT):
             self.assertIs(check_raises(self, NoMinute(value), state_of, BOTH, BOTH_LOGS, value).value, value)
             self.assertIs(check_raises(self, NoMinute(value), state_of, (), (), value).value, value)
         check_raises(self, Unexplained(("sure", 0, 7, 1)), state_of, REASONS[1][0], REASONS[1][1], True)
 
     def test_numbers_of_lamps(self):
-        for value in (*WRONG, 2, 6):
+        for value in (*WRONG, (), 2, 6):
             error = check_raises(self, NoIndex(value), explained, BOTH, BOTH_LOGS, 0, 1, value, None)
             self.assertIs(error.index, value)
             check_raises(self, NoIndex(value), explained, (), (), value)

@@ -200,7 +200,7 @@ class Ordinary(unittest.TestCase):
 
     def test_values_that_are_no_proofs(self):
         motions, needs = ((0, 2, 2), (5, 3, 5)), ((0, 1, 1), (1, 3, 5), (17, 1, 1))
-        for value in (*WRONG, motions, needs, [motions, needs], (motions,), (motions, needs, ()), (needs, motions)):
+        for value in (*WRONG, (), motions, needs, [motions, needs], (motions,), (motions, needs, ()), (needs, motions)):
             self.assertIs(fewest_holds(LONG, LONG_LOGS, value), False)
         for value in (*WRONG, list(motions), ((0, 2, 2), [5, 3, 5]), ((0, 2, 2), (5, 3, True))):
             self.assertIs(fewest_holds(LONG, LONG_LOGS, (value, needs)), False)
@@ -222,6 +222,8 @@ class Ordinary(unittest.TestCase):
         motions = ((0, 1, 6),)
         for needs in ((0, 1, 6),), ((0, 1, 3), (3, 1, 3)), ((0, 1, 2), (2, 1, 1), (3, 1, 3)):
             self.assertIs(fewest_holds(lamps, logs, (motions, needs)), True)
+        self.assertIs(fewest_holds((("hold", 1),), (((0, 1),),), (((0, 1, 1),), ((0, 2, 1),))), True)
+        self.assertIs(fewest_holds((("hold", 1),), (((0, 1),),), (((0, 1, 1),), ((-1, 2, 1),))), False)
         for needs in ((0, 1, 3), (2, 1, 3)), ((3, 1, 3), (0, 1, 3)), ((0, 1, 3), (0, 1, 3)), ((0, 2, 2), (3, 1, 4)), \
                 ((-1, 1, 6),), ((1, 1, 6),), ((0, 2, 3),), ((0, 2, 3), (6, 1, 3)):
             self.assertIs(fewest_holds(lamps, logs, (motions, needs)), False)
@@ -273,6 +275,9 @@ class Large(unittest.TestCase):
     def test_a_pulse_lamp_that_is_lit_for_very_long(self):
         for call in (gaps, fewest_count, most_count, fewest_motions, most_motions, needs_of):
             check_raises(self, TooLarge(2000), lambda: soon(lambda: call(PULSE, PULSE_LOGS)))
+            both = (*PULSE, ("hold", 3)), (*PULSE_LOGS, ((0, TOP + 2),))
+            check_raises(self, TooLarge(2000), lambda: soon(lambda: call(*both)))
+            check_raises(self, TooLarge(2000), lambda: soon(lambda: call(both[0][::-1], both[1][::-1])))
         lamps = (("pulse", TOP // 2000),)
         self.assertEqual(soon(lambda: fewest_count(lamps, DAY_LOGS)), 2000)
         self.assertEqual(soon(lambda: fewest_motions(lamps, DAY_LOGS)), ((0, TOP // 2000, 2000),))
@@ -413,7 +418,7 @@ class Errors(unittest.TestCase):
             check_raises(self, TooLarge(2000), lambda: soon(lambda: call(*args)))
 
     def test_minutes(self):
-        for value in (*WRONG, TOP + 1, LIMIT):
+        for value in (*WRONG, (), TOP + 1, LIMIT):
             for call in (next_sure, next_possible):
                 for lamps, logs in ((BOTH, BOTH_LOGS), ((), ()), (BOTH, ((), ()))):
                     self.assertIs(check_raises(self, NoMinute(value), call, lamps, logs, value).value, value)

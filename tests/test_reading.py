@@ -36,7 +36,7 @@ class Readings(unittest.TestCase):
                 self.assertEqual(soon(lambda: reading(minute)), state_of(lamps, logs, minute))
 
     def test_called_with_other_values(self):
-        for value in (*WRONG, TOP + 1):
+        for value in (*WRONG, (), TOP + 1):
             self.assertIs(check_raises(self, NoMinute(value), Reading(BOTH, BOTH_LOGS), value).value, value)
 
     def test_in(self):
@@ -45,7 +45,7 @@ class Readings(unittest.TestCase):
         everything = Reading((), ())
         self.assertEqual([value in everything for value in (-1, 0, TOP, TOP + 1, HUGE, -HUGE)],
                          [False, True, True, False, False, False])
-        for value in WRONG:
+        for value in (*WRONG, (), (0, TOP)):
             self.assertIs(value in everything, False)
 
     def test_items(self):

@@ -40,7 +40,7 @@ class Fitting(unittest.TestCase):
         self.assertEqual(fitting(((0, LIMIT),), ("hold", TOP), ("pulse", TOP), ("hold", TOP - 1)), (0, 1))
 
     def test_values_that_are_no_lamps(self):
-        for value in (*WRONG, ("hold", 0), ("pulse", TOP + 1), ["hold", 5], ("hold", True), ("hold", 5, 5)):
+        for value in (*WRONG, (), ("hold", 0), ("pulse", TOP + 1), ["hold", 5], ("hold", True), ("hold", 5, 5)):
             error = check_raises(self, BadLamp(value), fitting, ((3, 12),), ("hold", 5), value, None)
             self.assertIs(error.value, value)
 
