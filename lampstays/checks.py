@@ -19,6 +19,21 @@ def is_minute(value):
     return is_whole(value) and 0 <= value <= MAX_MINUTE
 
 
+def is_stay(value):
+    """Return whether value is the stay of a lamp."""
+    return is_whole(value) and 1 <= value <= MAX_MINUTE
+
+
+def is_within_limit(value):
+    """Return whether value is an integer from 0 to LIMIT."""
+    return is_whole(value) and 0 <= value <= LIMIT
+
+
+def is_positive(value):
+    """Return whether value is an integer from 1 on."""
+    return is_whole(value) and value >= 1
+
+
 def are_minutes(value):
     """Return whether value is an ascending tuple of minutes."""
     if not isinstance(value, tuple) or not all([is_minute(item) for item in value]):

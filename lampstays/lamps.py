@@ -1,7 +1,7 @@
 """Lamps, motions and logs."""
 
-from lampstays.bounds import MAX_MINUTE, MAX_RUNS, MAX_STRETCHES
-from lampstays.checks import is_index, is_minute, is_run, is_stretch, is_whole, last_minute
+from lampstays.bounds import MAX_RUNS, MAX_STRETCHES
+from lampstays.checks import is_index, is_minute, is_run, is_stay, is_stretch, is_whole, last_minute
 from lampstays.errors import BadLog, NoIndex, NoMinute, TooLarge
 from lampstays.spans import common
 
@@ -13,7 +13,7 @@ def is_lamp(value):
     if not isinstance(value, tuple) or len(value) != 2:
         return False
     kind, stay = value
-    return kind in KINDS and is_whole(stay) and 1 <= stay <= MAX_MINUTE
+    return kind in KINDS and is_stay(stay)
 
 
 def motions_error(value):
@@ -181,6 +181,16 @@ def each_motion(motions, *, start=0):
         skipped = max(0, skipped - count)
 
 
+def is_lit(log, minute):
+    """Return whether a lamp with this log is on at this minute, which may be any value."""
+    return is_whole(minute) and any([on <= minute < off for on, off in log])
+
+
+def how_long_lit(log):
+    """Return the number of minutes at which a lamp with this log is on."""
+    return sum([off - on for on, off in log])
+
+
 class Log:
     """A log as an object."""
 
@@ -198,10 +208,10 @@ class Log:
     @property
     def lit(self):
         """The number of minutes at which the lamp is on."""
-        return sum([off - on for on, off in self._stretches])
+        return how_long_lit(self._stretches)
 
     def __contains__(self, minute):
-        return is_whole(minute) and any([on <= minute < off for on, off in self._stretches])
+        return is_lit(self._stretches, minute)
 
     def __getitem__(self, index):
         if not is_index(index, len(self._stretches)):

@@ -29,16 +29,16 @@ def shared(ones, others):
     return tuple([common(one, other) for one, other in overlaps(ones, others)])
 
 
-def spans_beside(spans):
-    """Return the longest spans of the minutes in none of these spans, which come in order and may overlap."""
+def spans_beside(spans, top=MAX_MINUTE):
+    """Return the longest spans of minutes up to top in none of these spans, which come in order and may overlap."""
     found = []
     begin = 0
     for first, last in spans:
         if begin < first:
             found.append((begin, first - 1))
         begin = max(begin, last + 1)
-    if begin <= MAX_MINUTE:
-        found.append((begin, MAX_MINUTE))
+    if begin <= top:
+        found.append((begin, top))
     return tuple(found)
 
 

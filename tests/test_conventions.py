@@ -4,15 +4,25 @@ import copy
 import unittest
 
 from helpers import WRONG
-from lampstays import facts, fewest, lamps, stays
+from lampstays import facts, fewest, foretold, lamps, stays, texts
 from lampstays.errors import LampError
 from lampstays.facts import Reading
+from lampstays.foretold import Light
+from lampstays.houses import House, MeteredHouse
 from lampstays.lamps import Log
+from lampstays.shells import Shell
 from lampstays.stays import Stays
 from stories import BOTH, BOTH_LOGS, LONG, LONG_LOGS
 
 MOTIONS = ((3, 2, 3), (20, 1, 1), (24, 1, 1))
 AT_ODDS = (("hold", 5), ("hold", 2)), (((3, 12),), ((3, 5),))
+
+# Values with lists and dicts in them that are nearly what is asked for.
+NEARLY = (
+    (), 0, 3, 2 * 10 ** 9 + 1, ("motion", [3]), [["motion", 3]], [("motion", [3])], [("motion", 9), ("fit", ["hold", 5])],
+    [("motion", 9), ("burst", 12, 1, 3)], ("burst", 3, [1], 2), ("hold", [5]), ["hold", 5], (3, [5], True), [3, 5, True],
+    (3, 5, False), ([3], 5, True), {"a": {"b": [3]}}, "motion 9", "hold:5", "3-8 9-10", "3+2x3 20", "fit hold:2", "none",
+)
 
 
 def told(call, args):
@@ -41,6 +51,8 @@ class Conventions(unittest.TestCase):
         yield lambda motions: list(lamps.each_motion(motions, start=2)), [MOTIONS]
         yield from self.calls_of_values()
         yield from self.calls_of_logs()
+        yield from self.calls_of_foretold()
+        yield from self.calls_of_houses()
 
     def calls_of_values(self):
         """The calls of facts, stays and fewest with parameters that take any value."""
@@ -79,6 +91,54 @@ class Conventions(unittest.TestCase):
             yield lambda log: Stays(log)(MOTIONS), [log]
             yield lambda log: (Stays(log) & Stays(BOTH_LOGS[0]))["hold"], [log]
 
+    def calls_of_foretold(self):
+        """The calls of foretold, and those of texts, which go both ways."""
+        light = Light(BOTH, BOTH_LOGS, 2)
+        for value in (*WRONG, *NEARLY):
+            for call in (foretold.light_log, foretold.is_needless, foretold.sightings_fit, foretold.first_misfit,
+                         lambda *args: list(foretold.each_light(*args)), lambda *args: Light(*args).sure):
+                yield call, [BOTH, BOTH_LOGS, value]
+            yield foretold.light_state, [BOTH, BOTH_LOGS, value, 3]
+            yield foretold.light_state, [BOTH, BOTH_LOGS, 3, value]
+            yield foretold.first_misfit, [BOTH, BOTH_LOGS, (3, 3, True), value, (4, 5, False)]
+            for call in (foretold.is_spare, foretold.moving_range):
+                yield call, [BOTH, MOTIONS, value]
+            yield light, [value]
+            yield lambda value: value in light, [value]
+            yield lambda value: light[value], [value]
+            for call in (texts.parse_lamps, texts.parse_log, texts.parse_motions):
+                yield call, [value]
+        yield lambda *args: list(foretold.each_spare(*args, start=1)), [BOTH, MOTIONS]
+        yield foretold.thinned, [BOTH, MOTIONS]
+        for call, args in ((texts.lamps_text, BOTH), (texts.log_text, BOTH_LOGS[0]), (texts.motions_text, MOTIONS)):
+            yield call, [args]
+
+    def calls_of_houses(self):
+        """The calls of new houses and shells."""
+        edits = (
+            lambda house, value: house.motion(value), lambda house, value: house.burst(value, 1, 2),
+            lambda house, value: house.burst(50, value, 2), lambda house, value: house.burst(50, 1, value),
+            lambda house, value: house.fit(value), lambda house, value: house.remove(value),
+            lambda house, value: house.motion_all(30, value), lambda house, value: house.attempt(value),
+            lambda house, value: house.logs(version=value), lambda house, value: house(value),
+            lambda house, value: house[value], lambda house, value: value in house,
+            lambda house, value: Shell(house)(value), lambda house, value: Shell.fed(house, value, value).transcript(),
+        )
+
+        def after(shape, edit, value):
+            house = shape.after(MOTIONS, *BOTH)
+            return [told(edit, [house, value]), house.logs(), house.edits(), str(house)]
+
+        for value in (*WRONG, *NEARLY):
+            for shape in (House, MeteredHouse):
+                for edit in edits:
+                    yield lambda value, shape=shape, edit=edit: after(shape, edit, value), [value]
+                yield lambda value, shape=shape: shape(BOTH[0], value).lamps(), [value]
+                yield lambda value, shape=shape: shape.after(value, *BOTH).logs(), [value]
+                yield lambda value, shape=shape: shape.after(MOTIONS, value).logs(), [value]
+            yield lambda value: MeteredHouse(BOTH[0], cap=value).cap, [value]
+            yield House.is_run, [value]
+
     def test_arguments_stay_as_they_are_and_equal_calls_return_equal_results(self):
         for call, args in self.calls():
             before = copy.deepcopy(args)
@@ -94,6 +154,18 @@ class Conventions(unittest.TestCase):
         found = lamps.motions_error(value)
         value.append(None)
         self.assertEqual(found, (None, "motions"))
+
+    def test_later_changes_of_what_a_house_was_passed_have_no_effect(self):
+        house = House()
+        batch = [("motion", 3), ("fit", ("hold", 5))]
+        house.attempt(batch)
+        batch[0] = ("motion", 4)
+        batch.clear()
+        self.assertEqual(house.edits(), (("motion", 3), ("fit", ("hold", 5))))
+        shell, words = Shell(house), ["undo"]
+        shell(words)
+        words.append(3)
+        self.assertEqual(shell.transcript(), ((None, "unknown command"),))
 
     def test_an_object_that_could_not_be_asked_is_as_before(self):
         log = Log(((3, 8), (20, 29)))

@@ -293,6 +293,246 @@ raises TooLarge(300)
 >>> list(each_explanation(L, G, start=14))
 [(3, 7, 20, 22, 24), (3, 7, 20, 24)]
 ''',
+    "45": '''
+>>> from lampstays.foretold import light_state
+>>> L = (("hold", 5), ("pulse", 3))
+>>> G = (((3, 12), (20, 29)), ((3, 6), (7, 10), (20, 23), (24, 27)))
+>>> [light_state(L, G, 2, minute) for minute in (2, 3, 5, 6, 7, 9)]
+['off', 'on', 'open', 'open', 'on', 'off']
+''',
+    "46": '''
+>>> from lampstays.foretold import each_light, light_log
+>>> L = (("hold", 5), ("pulse", 3))
+>>> G = (((3, 12), (20, 29)), ((3, 6), (7, 10), (20, 23), (24, 27)))
+>>> H, K = (("hold", 3),), (((0, 20),),)
+>>> [light_log(L, G, 2), light_log(H, K, 2), light_log((), (), 2), list(each_light(L, G, 2, start=4))]
+[((3, 5, 'on'), (5, 7, 'open'), (7, 9, 'on'), (20, 22, 'on'), (22, 24, 'open'), (24, 26, 'on')), ((0, 2, 'on'), (2, 17, 'open'), (17, 19, 'on')), ((0, 1000000002, 'open'),), [(22, 24, 'open'), (24, 26, 'on')]]
+''',
+    "46 no count": '''
+>>> from lampstays.foretold import light_log
+>>> light_log((("hold", 5),), (((3, 12),),), 0)
+raises NoCount(0)
+''',
+    "47": '''
+>>> from lampstays.foretold import Light
+>>> L = (("hold", 5), ("pulse", 3))
+>>> G = (((3, 12), (20, 29)), ((3, 6), (7, 10), (20, 23), (24, 27)))
+>>> light = Light(L, G, 2)
+>>> [light.sure, light.unclear, light(5), 7 in light, 5 in light, light[1], len(light), bool(Light(L, ((), ()), 2))]
+[8, 4, 'open', True, False, (5, 7, 'open'), 6, False]
+''',
+    "47 more": '''
+>>> from lampstays.foretold import Light
+>>> H, K = (("hold", 3),), (((0, 20),),)
+>>> str(Light(H, K, 3))
+'             0            20 on'
+''',
+    "48": '''
+>>> from lampstays.foretold import is_needless
+>>> L = (("hold", 5), ("pulse", 3))
+>>> G = (((3, 12), (20, 29)), ((3, 6), (7, 10), (20, 23), (24, 27)))
+>>> A, B = (("hold", 5), ("hold", 4)), (((3, 12),), ((3, 11),))
+>>> [is_needless(A, B, 1), is_needless(L, G, 0), is_needless(L, G, 1)]
+[True, False, False]
+''',
+    "49": '''
+>>> from lampstays.foretold import first_misfit, sightings_fit
+>>> H, K = (("hold", 3),), (((0, 20),),)
+>>> [sightings_fit(H, K, (1, 2, False), (4, 5, False)), sightings_fit(H, K, (1, 3, False)), first_misfit(H, K, (1, 2, False), (2, 3, False)), first_misfit(H, K)]
+[True, False, 1, None]
+''',
+    "49 bad sighting": '''
+>>> from lampstays.foretold import sightings_fit
+>>> H, K = (("hold", 3),), (((0, 20),),)
+>>> sightings_fit(H, K, (1, 2, True), (2, 1, True))
+raises BadSighting(1)
+''',
+    "50": '''
+>>> from lampstays.foretold import each_spare, is_spare
+>>> L = (("hold", 5), ("pulse", 3))
+>>> M = ((3, 2, 3), (20, 1, 1), (24, 1, 1))
+>>> [is_spare(L, M, 1), is_spare(L, M, 2), list(each_spare(L, M)), list(each_spare((), M, start=3))]
+[True, False, [1], [3, 4]]
+''',
+    "51": '''
+>>> from lampstays.foretold import moving_range, thinned
+>>> L = (("hold", 5), ("pulse", 3))
+>>> M = ((3, 2, 3), (20, 1, 1), (24, 1, 1))
+>>> [moving_range(L, M, 1), moving_range(L, M, 4), moving_range((), M, 0), thinned(L, M), thinned((), M)]
+[(4, 5), (24, 24), (0, 4), ((3, 4, 2), (20, 4, 2)), ()]
+''',
+    "51 no index": '''
+>>> from lampstays.foretold import moving_range
+>>> moving_range((), ((3, 2, 3),), 3)
+raises NoIndex(3)
+''',
+    "53": '''
+>>> from lampstays.houses import House
+>>> house = House.after(((3, 2, 3),), ("hold", 5), ("pulse", 3))
+>>> [house.lamps(), house.motions(), house.logs(), house.edits(), House.LIMIT, House.is_run((3, 2, 1))]
+[(('hold', 5), ('pulse', 3)), ((3, 2, 3),), (((3, 12),), ((3, 6), (7, 10))), (), 60, False]
+''',
+    "53 bad lamp": '''
+>>> from lampstays.houses import House
+>>> House(("hold", 5), None, 7)
+raises BadLamp(None)
+''',
+    "53 too large": '''
+>>> from lampstays.houses import House
+>>> House.after(((0, 2, 61),), ("hold", 1))
+raises TooLarge(60)
+''',
+    "54": '''
+>>> from lampstays.houses import House
+>>> house = House(("hold", 5), ("pulse", 3))
+>>> [house.motion(3), house.burst(5, 2, 2), house.fit(("hold", 2)), house.motion(20), house.remove(0), house.logs()]
+[1, 2, 3, 4, 5, (((3, 6), (7, 10), (20, 23)), ((20, 22),))]
+''',
+    "54 not later": '''
+>>> from lampstays.houses import House
+>>> House.after(((3, 2, 3),)).motion(7)
+raises NotLater(7)
+''',
+    "54 no minute": '''
+>>> from lampstays.houses import House
+>>> House().burst(5, 10 ** 9, 2)
+raises NoMinute(1000000005)
+''',
+    "55": '''
+>>> from lampstays.houses import House
+>>> house = House(("hold", 5))
+>>> [house.motion_all(3, 9, 14), house.logs(), house.motion_all()]
+[3, (((3, 8), (9, 19)),), 3]
+''',
+    "55 not later": '''
+>>> from lampstays.houses import House
+>>> House().motion_all(3, 3, None)
+raises NotLater(3)
+''',
+    "56": '''
+>>> from lampstays.houses import House
+>>> house = House(("hold", 5))
+>>> [house.motion(3), house.undo(), house.logs()]
+[1, 0, ((),)]
+''',
+    "56 nothing to undo": '''
+>>> from lampstays.houses import House
+>>> House().undo()
+raises NothingToUndo()
+''',
+    "57": '''
+>>> from lampstays.houses import House
+>>> house = House(("pulse", 3))
+>>> done = [house.burst(4, 7, 1), house.fit(("hold", 2))]
+>>> [house.motions(), house.lamps(version=1), house.logs(), house.logs(version=0), house.edits()]
+[((4, 1, 1),), (('pulse', 3),), (((4, 7),), ()), ((),), (('burst', 4, 7, 1), ('fit', ('hold', 2)))]
+''',
+    "57 no version": '''
+>>> from lampstays.houses import House
+>>> House().logs(version=True)
+raises NoVersion(True)
+''',
+    "58": '''
+>>> from lampstays.houses import House
+>>> house = House(("hold", 5))
+>>> [house.many, house.moved, house.latest_minute, house.burst(0, 2, 5 * 10 ** 8), house.moved, house.latest_minute]
+[1, 0, None, 1, 500000000, 999999998]
+''',
+    "59": '''
+>>> from lampstays.houses import House
+>>> house = House.after(((3, 2, 3),), ("hold", 5), ("pulse", 3))
+>>> list(house.each_change(start=6))
+[(6, 1, False), (7, 1, True), (10, 1, False), (12, 0, False)]
+''',
+    "60": '''
+>>> from lampstays.houses import House
+>>> house = House(("hold", 5))
+>>> [house.attempt([("motion", 3), ("burst", 9, 2, 4)]), house.moved, len(house)]
+[2, 5, 2]
+''',
+    "60 rejected": '''
+>>> from lampstays.houses import House
+>>> House().attempt([("motion", 3), ("remove", 0)])
+raises Rejected(1)
+''',
+    "61": '''
+>>> from lampstays.houses import House
+>>> one = House(("hold", 5))
+>>> other = one.copy()
+>>> [one.burst(0, 1, 1500), one == other, other.burst(0, 1, 1500), one == other, str(one)]
+[1, False, 1, True, '1 lamps, 1,500 motions, 1 edits']
+''',
+    "62": '''
+>>> from lampstays.houses import MeteredHouse
+>>> house = MeteredHouse.after(((3, 2, 3),), ("hold", 5), ("pulse", 3))
+>>> [house.burnt, house.cap, str(house), house.motion(20), house.burnt]
+[(9, 6), None, '2 lamps, 3 motions, 0 edits, 15 minutes', 1, (14, 9)]
+''',
+    "62 too bright": '''
+>>> from lampstays.houses import MeteredHouse
+>>> house = MeteredHouse(("pulse", 3), ("hold", 5), cap=8)
+>>> house.motion_all(3, 6, 7)
+raises TooBright(1)
+''',
+    "63": '''
+>>> from lampstays.houses import House
+>>> house = House.after(((3, 2, 3),), ("hold", 5), ("pulse", 3))
+>>> [house(8), house(6), 11 in house, 12 in house, True in house, house[1], bool(house), bool(House())]
+[(0, 1), (0,), True, False, False, ((3, 6), (7, 10)), True, False]
+''',
+    "63 no index": '''
+>>> from lampstays.houses import House
+>>> House(("hold", 5))[-1]
+raises NoIndex(-1)
+''',
+    "65": '''
+>>> from lampstays.texts import lamps_text, log_text, motions_text
+>>> [lamps_text((("hold", 5), ("pulse", 3))), log_text(((3, 12), (20, 29))), motions_text(((3, 2, 3), (20, 1, 1))), log_text(())]
+['hold:5 pulse:3', '3-12 20-29', '3+2x3 20', 'none']
+''',
+    "66": '''
+>>> from lampstays.texts import parse_lamps, parse_log, parse_motions
+>>> [parse_lamps("hold:5 pulse:3"), parse_log("3-12 20-29"), parse_motions("3+2x3 20"), parse_motions("none")]
+[(('hold', 5), ('pulse', 3)), ((3, 12), (20, 29)), ((3, 2, 3), (20, 1, 1)), ()]
+''',
+    "66 bad text": '''
+>>> from lampstays.texts import parse_log
+>>> parse_log("3-12 12-20")
+raises BadText(1)
+''',
+    "66 bad text again": '''
+>>> from lampstays.texts import parse_motions
+>>> parse_motions("3+2x1")
+raises BadText(0)
+''',
+    "68": '''
+>>> from lampstays.houses import House
+>>> from lampstays.shells import Shell
+>>> shell = Shell(House(("hold", 5), ("pulse", 3)))
+>>> [shell("burst 3 2 3"), shell("motion 20"), shell.execute("log 1"), shell("at 8"), shell("motion 20"), shell("motions")]
+['ok 1', 'ok 2', '3-6 7-10 20-23', '0 1', 'error NotLater', '3+2x3 20']
+''',
+    "68 more": '''
+>>> from lampstays.houses import House
+>>> from lampstays.shells import Shell
+>>> shell = Shell.fed(House(("hold", 5)), "motion 3", "motion 7", "fit pulse:3")
+>>> [shell("state 3"), shell("remove 1"), shell("state 3"), shell("state 4"), shell("fewest"), shell("lamps")]
+['error Unexplained', 'ok 4', 'sure', 'open', '2', 'hold:5']
+''',
+    "69": '''
+>>> from lampstays.houses import House
+>>> from lampstays.shells import Shell
+>>> shell = Shell(House())
+>>> [shell.execute("undo"), shell(7), shell.transcript(), shell.last]
+['error NothingToUndo', 'unknown command', (('undo', 'error NothingToUndo'), (None, 'unknown command')), (None, 'unknown command')]
+''',
+    "70": '''
+>>> from lampstays.houses import House
+>>> from lampstays.shells import Shell
+>>> shell = Shell.fed(House(), "motion 3", 5, "lamps")
+>>> [shell.last, len(shell.transcript())]
+[('lamps', 'none'), 3]
+''',
 }
 
 

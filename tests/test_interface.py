@@ -5,7 +5,7 @@ import inspect
 import unittest
 
 import lampstays
-from lampstays import lamps
+from lampstays import houses, lamps, shells
 
 FUNCTIONS = {
     "lamps": {
@@ -33,6 +33,26 @@ FUNCTIONS = {
         "explanation_at": "(lamps, logs, index)", "explanation_index": "(lamps, logs, value)",
         "each_explanation": "(lamps, logs, *, start=0)",
     },
+    "foretold": {
+        "light_state": "(lamps, logs, stay, minute)", "light_log": "(lamps, logs, stay)",
+        "each_light": "(lamps, logs, stay, *, start=0)", "is_needless": "(lamps, logs, index)",
+        "sightings_fit": "(lamps, logs, *sightings)", "first_misfit": "(lamps, logs, *sightings)",
+        "is_spare": "(lamps, motions, index)", "each_spare": "(lamps, motions, *, start=0)",
+        "moving_range": "(lamps, motions, index)", "thinned": "(lamps, motions)",
+    },
+    "texts": {
+        "lamps_text": "(lamps)", "log_text": "(log)", "motions_text": "(motions)", "parse_lamps": "(value)",
+        "parse_log": "(value)", "parse_motions": "(value)",
+    },
+}
+
+HOUSE_DOUBLES = ("init", "len", "eq", "str", "call", "contains", "getitem", "bool")
+HOUSE_METHODS = {
+    "motion": "(self, minute)", "burst": "(self, first, step, count)", "fit": "(self, lamp)",
+    "remove": "(self, index)", "motion_all": "(self, *minutes)", "undo": "(self)",
+    "lamps": "(self, *, version=None)", "motions": "(self, *, version=None)", "logs": "(self, *, version=None)",
+    "edits": "(self)", "each_change": "(self, *, start=0)", "attempt": "(self, batch, *, on_step=None)",
+    "copy": "(self)",
 }
 
 # The double-underscore methods, the plain methods, the properties and the arguments of each class.
@@ -43,6 +63,12 @@ CLASSES = {
                            "(lamps, logs)"),
     ("stays", "Stays"): (("init", "contains", "getitem", "call", "and", "bool", "eq", "str", "iter"), ("how_many",),
                          ("days",), "(*logs)"),
+    ("foretold", "Light"): (("init", "contains", "getitem", "call", "len", "bool", "eq", "str", "iter"), (),
+                            ("sure", "unclear"), "(lamps, logs, stay)"),
+    ("houses", "House"): (HOUSE_DOUBLES, tuple(HOUSE_METHODS), ("many", "moved", "latest_minute"), "(*lamps)"),
+    ("houses", "MeteredHouse"): (HOUSE_DOUBLES, tuple(HOUSE_METHODS),
+                                 ("many", "moved", "latest_minute", "burnt", "cap"), "(*lamps, cap=None)"),
+    ("shells", "Shell"): (("init", "call"), ("execute", "transcript"), ("last",), "(house)"),
 }
 
 
@@ -79,6 +105,25 @@ class Interface(unittest.TestCase):
                 self.assertIsInstance(vars(shape)[word], property)
                 self.assertIsNone(vars(shape)[word].fset)
             self.assertEqual(str(inspect.signature(shape)), arguments)
+
+    def test_the_methods_of_houses(self):
+        for shape in (houses.House, houses.MeteredHouse):
+            for name, arguments in HOUSE_METHODS.items():
+                self.assertEqual(str(inspect.signature(vars(shape)[name])), arguments)
+                self.assertIs(inspect.isgeneratorfunction(vars(shape)[name]), name.startswith("each_"), name)
+            self.assertIsInstance(vars(shape)["after"], classmethod)
+            self.assertEqual(str(inspect.signature(shape.after)), "(motions, *lamps)")
+        self.assertIsInstance(vars(houses.House)["is_run"], staticmethod)
+        self.assertEqual(str(inspect.signature(houses.House.is_run)), "(value)")
+        self.assertEqual(vars(houses.House)["LIMIT"], 60)
+        self.assertEqual(houses.MeteredHouse.__bases__, (houses.House,))
+
+    def test_the_methods_of_shells(self):
+        self.assertIsInstance(vars(shells.Shell)["fed"], classmethod)
+        for call, arguments in ((shells.Shell.fed, "(house, *commands)"), (shells.Shell.execute, "(self, value)"),
+                                (shells.Shell.transcript, "(self)"), (shells.Shell.__call__, "(self, value)")):
+            self.assertEqual(str(inspect.signature(call)), arguments)
+        self.assertIn("WORDS", vars(shells.Shell))
 
     def test_the_package(self):
         self.assertEqual(lampstays.__name__, "lampstays")

@@ -9,7 +9,7 @@ FILES = sorted(FOLDER.rglob("*.py"))
 BUILTINS = {
     "len", "range", "enumerate", "zip", "min", "max", "sum", "abs", "sorted", "reversed", "int", "str", "bool", "bytes",
     "list", "tuple", "dict", "set", "isinstance", "ord", "repr", "any", "all", "divmod", "property", "staticmethod",
-    "classmethod", "super", "ValueError", "TypeError", "KeyError", "IndexError", "NotImplemented",
+    "classmethod", "super", "type", "ValueError", "TypeError", "KeyError", "IndexError", "NotImplemented",
 }
 LIBRARY = {"math": {"gcd", "isqrt"}}
 DECORATORS = {"property", "staticmethod", "classmethod"}
@@ -71,13 +71,28 @@ class Language(unittest.TestCase):
                     self.assertNotIsInstance(node.value, float, path)
                     self.assertFalse(isinstance(node.value, str) and "%" in node.value, path)
 
+    def test_where_the_class_of_an_object_is_asked_for(self):
+        for path, tree in trees():
+            nodes = list(ast.walk(tree))
+            named = [node.value for node in nodes if isinstance(node, ast.Attribute) and node.attr == "__name__"]
+            for node in nodes:
+                if isinstance(node, ast.Name) and node.id == "type":
+                    self.assertIn(node, [call.func for call in named if isinstance(call, ast.Call)], path)
+
+    def test_what_is_caught(self):
+        for path, tree in trees():
+            for node in ast.walk(tree):
+                if isinstance(node, ast.ExceptHandler):
+                    self.assertIsInstance(node.type, ast.Name, path)
+                    self.assertNotIn(node.type.id, BUILTINS, path)
+
     def test_names(self):
         for path, tree in trees():
             bound, read = set(), set()
             for node in ast.walk(tree):
                 if isinstance(node, ast.Name):
                     (read if isinstance(node.ctx, ast.Load) else bound).add(node.id)
-                elif isinstance(node, (ast.FunctionDef, ast.ClassDef)):
+                elif isinstance(node, (ast.FunctionDef, ast.ClassDef, ast.ExceptHandler)):
                     bound.add(node.name)
                 elif isinstance(node, (ast.arg, ast.alias)):
                     bound.add(getattr(node, "arg", None) or node.name)
