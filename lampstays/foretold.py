@@ -214,8 +214,9 @@ def around(motions, index):
 def last_lighting(stay, motions, minute):
     """Return the last minute up to that of a motion at which one lights a pulse lamp with this stay."""
     runs = [run for run in lighting_runs(stay, motions) if run[0] <= minute]
-    first, step, count = runs[-1]
-    return first + step * min(count - 1, (minute - first) // step)
+    # Behind the stay of its last lighting the motion would begin a run of its own, so it comes before one more step.
+    first, step, _ = runs[-1]
+    return first + step * ((minute - first) // step)
 
 
 def is_bridged(lamps, before, behind):

@@ -1,8 +1,25 @@
 """A house as the document tells of it, which works everything out again from its edits, minute by minute."""
 
 from helpers import minutes_of, watched
+from lampstays.houses import House, MeteredHouse
 
 TOP = 10 ** 9
+KINDS = (House, MeteredHouse)
+ALONE = tuple((2 * at, 1, 1) for at in range(60))
+
+
+def seen(house):
+    """All that a house tells, to see that it stays as it is."""
+    versions = range(len(house) + 1)
+    told = [(house.lamps(version=at), house.motions(version=at), house.logs(version=at)) for at in versions]
+    more = (house.burnt, house.cap) if isinstance(house, MeteredHouse) else ()
+    return [told, house.lamps(), house.motions(), house.logs(), house.edits(), house.many, house.moved,
+            house.latest_minute, len(house), str(house), bool(house), list(house.each_change()), *more]
+
+
+def any_lamps(choice, many, stay):
+    """Fewer lamps than so many, with stays less than this one."""
+    return tuple((choice.choice(("hold", "pulse")), choice.randrange(1, stay)) for _ in range(choice.randrange(many)))
 
 
 def is_whole(value):

@@ -9,8 +9,7 @@ from lampstays.errors import (
 )
 from lampstays.houses import House, MeteredHouse
 from lampstays.shells import Shell
-from model import Plan
-from test_houses import ALONE, KINDS, seen
+from model import ALONE, KINDS, Plan, seen
 
 TOP = 10 ** 9
 GOOD = [("motion", 3), ("burst", 9, 2, 4), ("fit", ("pulse", 2)), ("remove", 0), ("motion", 30)]
@@ -279,8 +278,10 @@ class Any(unittest.TestCase):
                 batch = []
                 for _ in range(choice.randrange(5)):
                     minute = choice.randrange(1 + 15 * len(edits), 40 + 15 * len(edits))
-                    batch.append(choice.choice((("motion", minute), ("burst", minute, choice.randrange(4), 2),
-                                                ("fit", ("hold", choice.randrange(4))), ("remove", choice.randrange(4)))))
+                    batch.append(choice.choice((
+                        ("motion", minute), ("burst", minute, choice.randrange(4), 2),
+                        ("fit", ("hold", choice.randrange(4))), ("remove", choice.randrange(4)),
+                    )))
                 expected, plan = list(edits), Plan((("hold", 5), ("pulse", 3)), (), edits)
                 wrong = None
                 for index, edit in enumerate(batch):

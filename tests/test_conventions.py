@@ -19,9 +19,10 @@ AT_ODDS = (("hold", 5), ("hold", 2)), (((3, 12),), ((3, 5),))
 
 # Values with lists and dicts in them that are nearly what is asked for.
 NEARLY = (
-    (), 0, 3, 2 * 10 ** 9 + 1, ("motion", [3]), [["motion", 3]], [("motion", [3])], [("motion", 9), ("fit", ["hold", 5])],
-    [("motion", 9), ("burst", 12, 1, 3)], ("burst", 3, [1], 2), ("hold", [5]), ["hold", 5], (3, [5], True), [3, 5, True],
-    (3, 5, False), ([3], 5, True), {"a": {"b": [3]}}, "motion 9", "hold:5", "3-8 9-10", "3+2x3 20", "fit hold:2", "none",
+    (), 0, 3, 2 * 10 ** 9 + 1, ("motion", [3]), [["motion", 3]], [("motion", [3])], ("burst", 3, [1], 2), ("hold", [5]),
+    [("motion", 9), ("fit", ["hold", 5])], [("motion", 9), ("burst", 12, 1, 3)], ["hold", 5], (3, [5], True),
+    [3, 5, True], (3, 5, False), ([3], 5, True), {"a": {"b": [3]}}, "motion 9", "hold:5", "3-8 9-10", "3+2x3 20",
+    "fit hold:2", "none",
 )
 
 

@@ -1,5 +1,7 @@
-"""The examples of the document, as they stand."""
+"""The examples of the document, as they stand, and those of README.md."""
 
+import doctest
+import pathlib
 import unittest
 
 from helpers import check_session
@@ -541,6 +543,15 @@ class Examples(unittest.TestCase):
         for name, text in SESSIONS.items():
             with self.subTest(name):
                 check_session(self, text)
+
+    def test_readme(self):
+        text = (pathlib.Path(__file__).resolve().parent.parent / "README.md").read_text(encoding="utf-8")
+        blocks = [block for block in text.split("```")[1::2] if ">>>" in block]
+        self.assertGreater(len(blocks), 3)
+        session = doctest.DocTestParser().get_doctest("\n".join(blocks), {}, "README.md", None, 0)
+        found = []
+        doctest.DocTestRunner(verbose=False).run(session, out=found.append)
+        self.assertEqual("".join(found), "")
 
     def test_a_wrong_session_would_be_noticed(self):
         for text in (">>> 1 + 1\n3", ">>> 1 + 1\nraises TooLarge(60)",

@@ -8,7 +8,7 @@ from lampstays.errors import NoIndex, NoMinute
 from lampstays.houses import House, MeteredHouse
 from lampstays.lamps import Log
 from stories import BURSTS, SIX, SIX_LOGS
-from test_houses import KINDS, seen
+from model import KINDS, seen
 
 TOP = 10 ** 9
 LIMIT = 2 * TOP
@@ -122,6 +122,10 @@ class Equal(unittest.TestCase):
         self.assertEqual(MeteredHouse(*lamps, cap=3), House(*lamps))
         self.assertNotEqual(house, House.after(((3, 2, 3),), *lamps[::-1]))
         self.assertNotEqual(house, House.after(((3, 2, 4),), *lamps))
+        self.assertNotEqual(House(("hold", 5)), House(("hold", 6)))
+        self.assertNotEqual(House(("hold", 5)), MeteredHouse(("pulse", 5)))
+        self.assertNotEqual(House(), House(("hold", 5)))
+        self.assertNotEqual(House.after(((3, 1, 1),), ("hold", 5)), House.after(((3, 1, 1),), ("pulse", 5)))
         later = House(*lamps[:1])
         later.burst(3, 2, 3)
         later.fit(lamps[1])

@@ -9,23 +9,12 @@ from lampstays.errors import (
     BadLamp, BadMotions, NoCount, NoIndex, NoMinute, NotLater, NothingToUndo, NoVersion, TooLarge, TooMany,
     TooManyEdits,
 )
-from lampstays.houses import House, MeteredHouse
+from lampstays.houses import House
 from lampstays.lamps import log_of, motions_error
-from model import Plan
+from model import ALONE, KINDS, Plan, any_lamps, seen
 from stories import BURSTS, SIX, SIX_LOGS
 
 TOP = 10 ** 9
-KINDS = (House, MeteredHouse)
-ALONE = tuple((2 * at, 1, 1) for at in range(60))
-
-
-def seen(house):
-    """All that a house tells, to see that it stays as it is."""
-    versions = range(len(house) + 1)
-    told = [(house.lamps(version=at), house.motions(version=at), house.logs(version=at)) for at in versions]
-    more = (house.burnt, house.cap) if isinstance(house, MeteredHouse) else ()
-    return [told, house.lamps(), house.motions(), house.logs(), house.edits(), house.many, house.moved,
-            house.latest_minute, len(house), str(house), bool(house), list(house.each_change()), *more]
 
 
 class Created(unittest.TestCase):
@@ -110,7 +99,7 @@ class Edits(unittest.TestCase):
     def test_many_edits_in_any_order(self):
         for seed in range(40):
             choice = random.Random(seed)
-            lamps = tuple((choice.choice(("hold", "pulse")), choice.randrange(1, 9)) for _ in range(choice.randrange(4)))
+            lamps = any_lamps(choice, 4, 9)
             motions = () if seed % 3 else ((1, 2, 5), (14, 1, 1))
             house, edits = KINDS[seed % 2].after(motions, *lamps), []
             for _ in range(30):

@@ -1,6 +1,5 @@
 """Points 44 to 47: what a light does by all motions that explain the logs."""
 
-import itertools
 import unittest
 
 from helpers import HUGE, WRONG, check_raises, soon
@@ -153,7 +152,8 @@ class Edges(unittest.TestCase):
 
     def test_stays(self):
         for value in (*WRONG, (), 0, TOP + 1, LIMIT):
-            for call in (light_log, Light, lambda *args: list(each_light(*args)), lambda *args: next(each_light(*args))):
+            for call in (light_log, Light, lambda *args: list(each_light(*args)),
+                         lambda *args: next(each_light(*args))):
                 self.assertIs(check_raises(self, NoCount(value), call, BOTH, BOTH_LOGS, value).value, value)
             check_raises(self, NoCount(value), light_state, BOTH, BOTH_LOGS, value, None)
             check_raises(self, NoCount(value), light_log, (), (), value)
@@ -182,10 +182,9 @@ class Walk(unittest.TestCase):
         for lamps, logs in SOME:
             for stay in (1, 2, 5):
                 items = light_log(lamps, logs, stay)
-                for start in (0, 1, len(items) // 2, len(items) - 1, len(items), len(items) + 1, 10 ** 39, 10 ** 40 - 1):
-                    if start >= 0:
-                        found = soon(lambda: list(each_light(lamps, logs, stay, start=start)))
-                        self.assertEqual(found, list(items[start:]))
+                for start in (0, 1, len(items) // 2, len(items), len(items) + 1, 10 ** 39, 10 ** 40 - 1):
+                    found = soon(lambda: list(each_light(lamps, logs, stay, start=start)))
+                    self.assertEqual(found, list(items[start:]))
 
     def test_left_early_and_two_at_once(self):
         items = light_log(BOTH, BOTH_LOGS, 2)

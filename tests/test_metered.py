@@ -7,9 +7,8 @@ from helpers import WRONG, check_raises, soon
 from lampstays import errors
 from lampstays.errors import BadLamp, NoCount, NoMinute, NotLater, Rejected, TooBright, TooLarge, TooManyEdits
 from lampstays.houses import House, MeteredHouse
-from model import Plan
+from model import ALONE, Plan, any_lamps, seen
 from stories import BURSTS, SIX, SIX_LOGS
-from test_houses import ALONE, seen
 
 TOP = 10 ** 9
 LIMIT = 2 * TOP
@@ -170,13 +169,15 @@ class Caps(unittest.TestCase):
         for seed in range(25):
             choice = random.Random(seed)
             cap = choice.randrange(40)
-            lamps = tuple((choice.choice(("hold", "pulse")), choice.randrange(1, 9)) for _ in range(choice.randrange(4)))
+            lamps = any_lamps(choice, 4, 9)
             house, edits = MeteredHouse(*lamps, cap=cap), []
             for _ in range(20):
                 plan = Plan(lamps, (), edits)
                 minute = 10 * len(edits) + choice.randrange(12)
-                edit = choice.choice((("motion", minute), ("burst", minute, choice.randrange(1, 4), choice.randrange(5)),
-                                      ("fit", ("pulse", choice.randrange(1, 5))), ("remove", choice.randrange(3))))
+                edit = choice.choice((
+                    ("motion", minute), ("burst", minute, choice.randrange(1, 4), choice.randrange(5)),
+                    ("fit", ("pulse", choice.randrange(1, 5))), ("remove", choice.randrange(3)),
+                ))
                 name, *values = edit
                 expected = plan.error(edit, len(edits), cap)
                 if expected is None:

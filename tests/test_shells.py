@@ -11,7 +11,7 @@ from lampstays.houses import House, MeteredHouse
 from lampstays.shells import Shell
 from lampstays.texts import lamps_text, log_text, motions_text, parse_lamps, parse_log, parse_motions
 from stories import BURSTS, SIX
-from test_houses import ALONE, KINDS, seen
+from model import ALONE, KINDS, seen
 
 TOP = 10 ** 9
 UNKNOWN = "unknown command"
@@ -30,7 +30,8 @@ class Commands(unittest.TestCase):
                 Shell(house), ("motion 3", "ok 1"), ("burst 5 2 2", "ok 2"), ("fit pulse:3", "ok 3"),
                 ("motion 20", "ok 4"), ("remove 0", "ok 5"), ("burst 1000000000 7 1", "ok 6"), ("undo", "ok 5"),
                 ("motion 0", "error NotLater"), ("undo", "ok 4"), ("undo", "ok 3"), ("undo", "ok 2"), ("undo", "ok 1"),
-                ("undo", "ok 0"), ("undo", "error NothingToUndo"), ("motion 0", "ok 1"), ("fit hold:1000000000", "ok 2"),
+                ("undo", "ok 0"), ("undo", "error NothingToUndo"), ("motion 0", "ok 1"),
+                ("fit hold:1000000000", "ok 2"),
             )
             self.assertEqual(house.edits(), (("motion", 0), ("fit", ("hold", TOP))))
 
@@ -114,7 +115,8 @@ class Unknown(unittest.TestCase):
             self.assertEqual(seen(house), before)
 
     def test_values_that_are_no_strings(self):
-        self.unknown(*[value for value in WRONG if not isinstance(value, str)], (), ("undo",), ["undo"], b"undo", House())
+        values = [value for value in WRONG if not isinstance(value, str)]
+        self.unknown(*values, (), ("undo",), ["undo"], b"undo", House())
 
     def test_words_that_are_none(self):
         self.unknown("", " ", "x", "3", "hold:5", "none", "Undo", "UNDO", "Motion 5", "edits", "copy", "logs", "many",
@@ -123,7 +125,8 @@ class Unknown(unittest.TestCase):
 
     def test_too_few_and_too_many_arguments(self):
         for word, arguments in (("motion", "9"), ("burst", "9 1 2"), ("fit", "hold:5"), ("remove", "0"), ("undo", ""),
-                                ("lamps", ""), ("motions", ""), ("log", "0"), ("at", "5"), ("state", "5"), ("fewest", "")):
+                                ("lamps", ""), ("motions", ""), ("log", "0"), ("at", "5"), ("state", "5"),
+                                ("fewest", "")):
             command = f"{word} {arguments}" if arguments else word
             self.unknown(command + " 1", command + " hold:5", command + " x")
             if arguments:
@@ -135,15 +138,15 @@ class Unknown(unittest.TestCase):
                 self.unknown(command.replace(" ", "  ", 1), command.replace(" ", "\n", 1), command.replace(" ", ""))
 
     def test_numbers(self):
-        wrong = ("", "x", "-1", "+5", "05", "00", "5.0", "1e3", "5x", "0x5", "1_0", "1,000", "\u0665", "\u00b2", "1" + TWENTY,
-                 "0" + TWENTY, str(HUGE), "9" * 5000, "five", "None", "True", "hold:5", "5+1x2", "3-8")
+        wrong = ("", "x", "-1", "+5", "05", "00", "5.0", "1e3", "5x", "0x5", "1_0", "1,000", "\u0665", "\u00b2", "five",
+                 "1" + TWENTY, "0" + TWENTY, str(HUGE), "9" * 5000, "None", "True", "hold:5", "5+1x2", "3-8")
         for number in wrong:
             self.unknown(*[f"{word} {number}" for word in ("motion", "remove", "log", "at", "state", "undo", "fewest")])
             self.unknown(f"burst {number} 1 2", f"burst 9 {number} 2", f"burst 9 1 {number}")
 
     def test_lamps(self):
-        for lamp in ("", "5", "hold", "hold:", "hold:0", "hold:05", "hold:1000000001", "Hold:5", "on:5", "hold:-5", "hold:x",
-                     "pulse:", ":5", "hold:5:5", "none", "hold:" + TWENTY, "hold:5,"):
+        for lamp in ("", "5", "hold", "hold:", "hold:0", "hold:05", "hold:1000000001", "Hold:5", "on:5", "hold:-5",
+                     "hold:x", "pulse:", ":5", "hold:5:5", "none", "hold:" + TWENTY, "hold:5,"):
             self.unknown(f"fit {lamp}")
 
 
@@ -254,7 +257,8 @@ class ByMethods(unittest.TestCase):
 
     def check_answers(self, shell, house):
         self.assertEqual((shell("lamps"), shell("motions")), (lamps_text(house.lamps()), motions_text(house.motions())))
-        self.assertEqual((parse_lamps(shell("lamps")), parse_motions(shell("motions"))), (house.lamps(), house.motions()))
+        self.assertEqual(parse_lamps(shell("lamps")), house.lamps())
+        self.assertEqual(parse_motions(shell("motions")), house.motions())
         for index in range(house.many):
             self.assertEqual(shell(f"log {index}"), log_text(house[index]))
             self.assertEqual(parse_log(shell(f"log {index}")), house.logs()[index])
@@ -272,7 +276,8 @@ class ByMethods(unittest.TestCase):
         house = MeteredHouse(("hold", 5), cap=5)
         shell = Shell.fed(house, "motion 3")
         before = seen(house)
-        for command in ("motion 3", "motion 9", "burst 1 0 1", "remove 5", "log 7", "at 1000000001", "burst 9 1 61", "x"):
+        for command in ("motion 3", "motion 9", "burst 1 0 1", "remove 5", "log 7", "at 1000000001", "burst 9 1 61",
+                        "fit hold:0", "x"):
             self.assertIn(shell(command).split(" ")[0], ("error", "unknown"))
             self.assertEqual(seen(house), before)
 

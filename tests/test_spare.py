@@ -8,6 +8,7 @@ from helpers import HUGE, WRONG, check_raises, minutes_of, soon, watched
 from lampstays.errors import NoIndex, TooLarge
 from lampstays.foretold import each_spare, is_spare, moving_range, thinned
 from lampstays.lamps import count_motions, log_of, motion_at, motions_of
+from model import any_lamps
 from stories import BURSTS, SIX
 
 TOP = 10 ** 9
@@ -88,7 +89,7 @@ class Small(unittest.TestCase):
         choice = random.Random(51)
         for _ in range(60):
             minutes = tuple(sorted(choice.sample(range(60), choice.randrange(1, 25))))
-            lamps = tuple((choice.choice(("hold", "pulse")), choice.randrange(1, 12)) for _ in range(choice.randrange(4)))
+            lamps = any_lamps(choice, 4, 12)
             self.check(lamps, minutes)
 
     def test_runs_that_are_told_otherwise(self):
