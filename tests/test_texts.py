@@ -125,8 +125,8 @@ class BadTexts(unittest.TestCase):
     def numbers(self):
         """Texts that are no numbers from 1 on, nor any that are small enough."""
         return ("", "0", "00", "05", "005", "+5", "-5", "5.0", "5_0", "1e3", "five", "0x5", "5a", "a5", "\u0665",
-                "\u00b2", "\uff15", "5\n", "True", "None", "1,500", str(HUGE), "9" * 5000, "1" + "0" * 9000, "0" * 4999 + "5",
-                "3000000000", "99999999999999999999", "100000000000000000000")
+                "\u00b2", "\uff15", "5\n", "True", "None", "1,500", str(HUGE), "9" * 5000, "1" + "0" * 9000,
+                "0" * 4999 + "5", "3000000000", "99999999999999999999", "100000000000000000000")
 
     def test_lamps(self):
         wrong = ["x", "hold", "hold:", ":5", "pulse", "Hold:5", "HOLD:5", "hold:5:", "hold:5:5", "hold::5", "hold;5",
